@@ -1,5 +1,6 @@
 """Rules, values of any kind, and plain readings of the document that the tests share."""
 
+from functools import lru_cache
 from itertools import permutations, product
 from random import Random
 
@@ -8,6 +9,19 @@ SIX = (3, ((0, 0, 0), (0, 1, 0), (1, 1, 0), (1, 2, 0), (2, 0, 0), (2, 2, 0)))
 STEEP = (2, ((0, 0, 0), (1, 0, 0), (1, 1, 0)))
 EMPTY = (3, ())
 FULL = (5, tuple((i, j, 0) for i in range(5) for j in range(5)))
+CLIMBING = (5, tuple((i, j, i * j) for i in range(5) for j in range(5)))
+FALLING = (5, tuple((i, j, -i * j) for i in range(5) for j in range(5)))
+
+
+def round_rule(shifts):
+    """Each shift leads to itself and to the next one: the only rings have all shifts."""
+    return (shifts, tuple(sorted((i, j % shifts, 0) for i in range(shifts) for j in (i, i + 1))))
+
+
+# Its bare rings have three and four people, and the least of them all has four.
+BOTH = (5, tuple((i, j, 0) for i, j in (
+    (0, 0), (0, 3), (0, 4), (1, 3), (2, 2), (2, 3), (3, 0), (3, 1), (4, 1), (4, 2), (4, 4),
+)))
 
 
 def random_rule(random, shifts, chance=70, prices=(-2, -1, 0, 1, 2)):
@@ -56,6 +70,67 @@ def prices_by_pair(rule):
     return {(i, j): price for i, j, price in rule[1]}
 
 
+@lru_cache(maxsize=None)
+def rings_by_words(rule):
+    """All rings of the rule, read word by word from the document."""
+    allowed, shifts, found = prices_by_pair(rule), range(rule[0]), []
+    for many in range(2, rule[0] + 1):
+        for firsts in permutations(shifts, many):
+            for seconds in permutations(shifts, many):
+                ring = tuple(zip(firsts, seconds))
+                behind = [(firsts[t], seconds[(t + 1) % many]) for t in range(many)]
+                if firsts[0] == min(firsts) and all(step in allowed for step in [*ring, *behind]):
+                    found.append(ring)
+    return tuple(found)
+
+
+def steps_behind_by_words(ring):
+    """The steps on which the people of the ring are behind a turn."""
+    return [(ring[t][0], ring[(t + 1) % len(ring)][1]) for t in range(len(ring))]
+
+
+def chords_by_words(rule, ring):
+    allowed, behind = prices_by_pair(rule), steps_behind_by_words(ring)
+    return [
+        (i, j) for i in range(rule[0]) for j in range(rule[0])
+        if i in [first for first, _ in ring] and j in [second for _, second in ring]
+        and (i, j) in allowed and (i, j) not in ring and (i, j) not in behind
+    ]
+
+
+@lru_cache(maxsize=None)
+def bare_rings_by_words(rule):
+    """All bare rings, ascending."""
+    return tuple(sorted(ring for ring in rings_by_words(rule) if len(ring) > 2 and not chords_by_words(rule, ring)))
+
+
+def turned_by_words(table, ring, times):
+    """The table behind the turn, None if it cannot be done."""
+    if any(table[i][j] < times for i, j in ring):
+        return None
+    rows = [list(row) for row in table]
+    for i, j in ring:
+        rows[i][j] -= times
+    for i, j in steps_behind_by_words(ring):
+        rows[i][j] += times
+    return tuple(map(tuple, rows))
+
+
+def reached_by_words(rule, table, most):
+    """All tables to which turns of rings of at most so many people lead, of any ring and any times."""
+    rings = [ring for ring in rings_by_words(rule) if len(ring) <= most]
+    found, waiting = {table}, [table]
+    while waiting:
+        current = waiting.pop()
+        for ring in rings:
+            for times in range(1, min(current[i][j] for i, j in ring) + 1):
+                after = turned_by_words(current, ring, times)
+                if after not in found:
+                    found.add(after)
+                    waiting.append(after)
+    return found
+
+
 def fours(rule, steps, step):
     """All fours against the step among the steps, read word by word from the document."""
     prices, (i, j) = prices_by_pair(rule), step
@@ -99,6 +174,47 @@ def tables_of_people(rule, people):
         on = dict(zip(pairs, counts))
         found.append(tuple(tuple(on.get((i, j), 0) for j in range(rule[0])) for i in range(rule[0])))
     return found
+
+
+def tables_with(rule, sums):
+    """All tables of the rule with these sums."""
+    allowed, shifts = prices_by_pair(rule), rule[0]
+
+    def rows_of(many, columns, i, j=0):
+        if j == shifts:
+            return [()] if many == 0 else []
+        most = min(many, columns[j]) if (i, j) in allowed else 0
+        return [(on,) + row for on in range(most + 1) for row in rows_of(many - on, columns, i, j + 1)]
+
+    def tables_of(i, columns):
+        if i == shifts:
+            return [()] if not any(columns) else []
+        return [
+            (row,) + table for row in rows_of(sums[0][i], columns, i)
+            for table in tables_of(i + 1, [many - on for many, on in zip(columns, row)])
+        ]
+
+    return tables_of(0, list(sums[1]))
+
+
+def random_table(random, rule, people):
+    """A table with at most so many people, who are spread unevenly over its steps."""
+    rows = [[0] * rule[0] for _ in range(rule[0])]
+    left = people
+    for i, j, _ in random.sample(rule[1], len(rule[1])):
+        rows[i][j] = random.choice((0, 0, 1, random.randrange(left + 1), left // 2))
+        rows[i][j] = min(rows[i][j], left)
+        left -= rows[i][j]
+    return tuple(map(tuple, rows))
+
+
+def random_order(random, rule):
+    """Any order of a rule that has one."""
+    left, order = sorted(prices_by_pair(rule)), []
+    while left:
+        order.append(random.choice([step for step in left if not fours(rule, left, step)]))
+        left.remove(order[-1])
+    return tuple(order)
 
 
 def filled_by_words(rule, steps, sums):

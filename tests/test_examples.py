@@ -1,7 +1,10 @@
-"""The examples of the interface, as they stand there."""
+"""The examples of the interface, as they stand there, and those of README.md."""
 
 import doctest
 import unittest
+from pathlib import Path
+
+README = Path(__file__).resolve().parent.parent / "README.md"
 
 STAGE_1 = """
     >>> from swaprings.rules import flipped, price_of, steps_of
@@ -27,6 +30,35 @@ STAGE_3 = """
     (((0, 1), (0, 0), (1, 0), (1, 1)), (1, 1), None, 6)
 """
 
+STAGE_4 = """
+    >>> from swaprings.rings import bare_rings, crew, trails
+    >>> six = (3, ((0, 0, 0), (0, 1, 0), (1, 1, 0), (1, 2, 0), (2, 0, 0), (2, 2, 0)))
+    >>> (bare_rings(six), crew(six), len(trails(six, 3)))
+    ((((0, 0), (1, 1), (2, 2)), ((0, 1), (2, 0), (1, 2))), 3, 8)
+"""
+
+STAGE_5 = """
+    >>> from swaprings.thresholds import are_joined, least_parted
+    >>> six = (3, ((0, 0, 0), (0, 1, 0), (1, 1, 0), (1, 2, 0), (2, 0, 0), (2, 2, 0)))
+    >>> (are_joined(six, 2, 2), are_joined(six, 3, 2), are_joined(six, 10 ** 30, 3), least_parted(six, 2))
+    (True, False, True, 3)
+"""
+
+STAGE_6 = """
+    >>> from swaprings.filling import filled, spoiled
+    >>> late = (2, ((0, 0, 0), (0, 1, 1), (1, 0, 1), (1, 1, 5)))
+    >>> (filled(late, ((0, 1), (0, 0), (1, 0), (1, 1)), ((3, 2), (2, 3))), spoiled(late, ((0, 0), (0, 1), (1, 0), (1, 1))))
+    ((((0, 3), (2, 0)), ((0, 0), (0, 0))), (0, 0, 1, 1))
+"""
+
+STAGE_7 = """
+    >>> from swaprings.ways import reached, walked
+    >>> six = (3, ((0, 0, 0), (0, 1, 0), (1, 1, 0), (1, 2, 0), (2, 0, 0), (2, 2, 0)))
+    >>> one = ((1, 0, 0), (0, 1, 0), (0, 0, 1))
+    >>> (walked(six, one, ((((0, 0), (1, 1), (2, 2)), 1),)), len(reached(six, one, 2)), len(reached(six, one, 3)))
+    (((0, 1, 0), (0, 0, 1), (1, 0, 0)), 1, 2)
+"""
+
 
 class Examples(unittest.TestCase):
     def run_example(self, name, text):
@@ -45,6 +77,21 @@ class Examples(unittest.TestCase):
 
     def test_stage_3(self):
         self.run_example("stage 3", STAGE_3)
+
+    def test_stage_4(self):
+        self.run_example("stage 4", STAGE_4)
+
+    def test_stage_5(self):
+        self.run_example("stage 5", STAGE_5)
+
+    def test_stage_6(self):
+        self.run_example("stage 6", STAGE_6)
+
+    def test_stage_7(self):
+        self.run_example("stage 7", STAGE_7)
+
+    def test_readme(self):
+        self.run_example("README.md", README.read_text("ascii"))
 
 
 if __name__ == "__main__":

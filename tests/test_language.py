@@ -23,6 +23,20 @@ INTERFACE = {
         "stuck_steps": ["rule"], "is_order": ["rule", "value"], "good_lines": ["rule"],
         "are_good_lines": ["rule", "value"],
     },
+    "rings": {
+        "chords": ["rule", "ring"], "is_bare": ["rule", "ring"], "halves": ["rule", "ring", "chord"],
+        "bare_rings": ["rule"], "crew": ["rule"], "trails": ["rule", "most"],
+    },
+    "thresholds": {
+        "are_joined": ["rule", "people", "most"], "least_parted": ["rule", "most"], "parted": ["rule", "people", "most"],
+    },
+    "filling": {
+        "filled": ["rule", "steps", "sums"], "spoiled": ["rule", "steps"], "spoiled_sums": ["rule", "steps"],
+    },
+    "ways": {
+        "calm_way": ["rule", "order", "table"], "way_between": ["rule", "table", "other", "most"],
+        "walked": ["rule", "table", "way"], "reached": ["rule", "table", "most"],
+    },
 }
 
 LIBRARY = ("heapq", "math", "itertools", "collections")

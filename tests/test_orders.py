@@ -11,8 +11,8 @@ from swaprings.orders import (
 from swaprings.rules import steps_of, unpriced
 from swaprings.tables import price_of_table, sums_of
 from tests.samples import (
-    EMPTY, FULL, LATE, SIX, STEEP, all_unpriced, are_good_by_words, filled_by_words, fours, is_order_by_words,
-    odd_values, pairs_of_lines, random_rules, tables_of_people,
+    CLIMBING, EMPTY, FALLING, FULL, LATE, SIX, STEEP, all_unpriced, are_good_by_words, filled_by_words, fours,
+    is_order_by_words, odd_values, pairs_of_lines, random_rules, tables_of_people,
 )
 
 # The four (1, 1) against (0, 0) is told by its price alone: one more makes it, the same does not.
@@ -21,8 +21,6 @@ DEAR = (2, ((0, 0, 3), (0, 1, 3), (1, 0, 4), (1, 1, 5)))
 CHEAP = (2, ((0, 0, 1), (0, 1, 3), (1, 0, 4), (1, 1, 5)))
 # No pair is barred, so that the prices alone make the stuck set.
 TANGLED = (3, ((0, 0, 0), (0, 1, 0), (0, 2, 0), (1, 0, 0), (1, 1, 1), (1, 2, 2), (2, 0, 0), (2, 1, 2), (2, 2, 1)))
-CLIMBING = (5, tuple((i, j, i * j) for i in range(5) for j in range(5)))
-FALLING = (5, tuple((i, j, -i * j) for i in range(5) for j in range(5)))
 RULES = [LATE, SIX, STEEP, EMPTY, FULL, EVEN, DEAR, CHEAP, TANGLED, CLIMBING, FALLING, (2, ()), (5, ())]
 RANDOM_RULES = random_rules(7, 120, (2, 3, 4, 5))
 

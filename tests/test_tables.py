@@ -2,28 +2,17 @@
 
 import unittest
 from copy import deepcopy
-from itertools import permutations, product
+from itertools import product
 from random import Random
 
 from swaprings.errors import CannotTurn, InvalidSums, InvalidTable
 from swaprings.tables import is_ring, price_of_table, require_sums, require_table, sums_of, turned
-from tests.samples import EMPTY, FULL, LATE, SIX, STEEP, all_unpriced, odd_values, prices_by_pair, random_rules
+from tests.samples import (
+    EMPTY, FULL, LATE, SIX, STEEP, all_unpriced, odd_values, prices_by_pair, random_rules, rings_by_words,
+)
 
 MOST = 10 ** 30
 FREE = (3, tuple((i, j, i - j) for i in range(3) for j in range(3)))
-
-
-def rings_by_words(rule):
-    """All rings of the rule, read word by word from the document."""
-    allowed, shifts, found = prices_by_pair(rule), range(rule[0]), []
-    for many in range(2, rule[0] + 1):
-        for firsts in permutations(shifts, many):
-            for seconds in permutations(shifts, many):
-                ring = tuple(zip(firsts, seconds))
-                behind = [(firsts[t], seconds[(t + 1) % many]) for t in range(many)]
-                if firsts[0] == min(firsts) and all(step in allowed for step in [*ring, *behind]):
-                    found.append(ring)
-    return found
 
 
 class RequireSums(unittest.TestCase):

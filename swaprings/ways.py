@@ -1,0 +1,113 @@
+"""Ways of turns from table to table."""
+
+from swaprings.errors import CannotTurn
+from swaprings.rings import bare_rings, begun_at_least, chords, halves
+from swaprings.rules import steps_of
+from swaprings.tables import steps_behind, turned
+
+
+def calm_way(rule, order, table):
+    """Returns a calm way from the table to the one that is filled by the order."""
+    way = []
+    for t, (i, j) in enumerate(order):
+        later = order[t + 1:]
+        # Nobody on a later step of the row or nobody on one of the column is left behind these
+        # turns, so the step has as many people as it is filled with.
+        for l in [second for first, second in later if first == i]:
+            for k in [first for first, second in later if second == j]:
+                times = min(table[i][l], table[k][j])
+                if times > 0:
+                    ring = begun_at_least(((i, l), (k, j)))
+                    table = turned(rule, table, ring, times)
+                    way.append((ring, times))
+    return tuple(way)
+
+
+def way_between(rule, table, other, most):
+    """Returns a way of rings of at most most people from the table to the other one."""
+    shifts = range(rule[0])
+    cells = [[other[i][j] - table[i][j] for j in shifts] for i in shifts]
+    way = []
+    for ring, times in agreeing_turns(cells):
+        way.extend([(part, times) for part in _parts_of(rule, ring, most)])
+    return tuple(way)
+
+
+def _parts_of(rule, ring, most):
+    """Returns rings of at most most people that do the same as the ring, one after the other."""
+    if len(ring) <= most:
+        return [ring]
+    first, second = halves(rule, ring, chords(rule, ring)[0])
+    return _parts_of(rule, first, most) + _parts_of(rule, second, most)
+
+
+def agreeing_turns(cells):
+    """Returns turns that agree and together add the cells to a table; each row and column has the sum 0."""
+    rows = [list(row) for row in cells]
+    turns = []
+    ring = _agreeing_ring(rows)
+    while ring is not None:
+        behind = steps_behind(ring)
+        times = min([-rows[i][j] for i, j in ring] + [rows[i][j] for i, j in behind])
+        for i, j in ring:
+            rows[i][j] = rows[i][j] + times
+        for i, j in behind:
+            rows[i][j] = rows[i][j] - times
+        turns.append((ring, times))
+        ring = _agreeing_ring(rows)
+    return turns
+
+
+def _agreeing_ring(rows):
+    """Returns a ring that takes where a number is below 0 and gives where one is above 0, or None."""
+    shifts = range(len(rows))
+    starts = [i for i in shifts if any(rows[i])]
+    if not starts:
+        return None
+    i = starts[0]
+    steps = []
+    firsts = []
+    # A row leads to one column and a column to one row, so the first row that comes again ends a ring.
+    while i not in firsts[:-1]:
+        j = [column for column in shifts if rows[i][column] > 0][0]
+        i = [row for row in shifts if rows[row][j] < 0][0]
+        steps.append((i, j))
+        firsts.append(i)
+    return begun_at_least(tuple(steps[firsts.index(i) + 1:]))
+
+
+def walked(rule, table, way):
+    """Returns the table behind the way, raises CannotTurn with the first turn that cannot be done."""
+    for t, (ring, times) in enumerate(way):
+        try:
+            table = turned(rule, table, ring, times)
+        except CannotTurn:
+            raise CannotTurn(t) from None
+    return table
+
+
+def reached(rule, table, most):
+    """Returns the ascending tuple of all tables to which ways of rings of at most most people lead."""
+    # What a ring with a chord does, its halves do, so only the others need to be tried.
+    rings = _rings_of_two(rule) + [ring for ring in bare_rings(rule) if len(ring) <= most]
+    found = {table: True}
+    waiting = [table]
+    while waiting:
+        current = waiting.pop()
+        for ring in rings:
+            if not all([current[i][j] > 0 for i, j in ring]):
+                continue
+            after = turned(rule, current, ring, 1)
+            if after not in found:
+                found[after] = True
+                waiting.append(after)
+    return tuple(sorted(found))
+
+
+def _rings_of_two(rule):
+    allowed = steps_of(rule)
+    return [
+        ((i, j), (k, l))
+        for i, j in allowed
+        for k, l in allowed if k > i and l != j and (i, l) in allowed and (k, j) in allowed
+    ]
