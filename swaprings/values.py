@@ -28,3 +28,12 @@ def are_counts(value, many):
     if not is_tuple_of(value, many):
         return False
     return all([is_whole(count, 0, MOST_PEOPLE) for count in value])
+
+
+def is_set_of_shifts(value, shifts):
+    """Tells whether the value is a strictly ascending tuple of some of so many shifts."""
+    if not isinstance(value, tuple) or len(value) > shifts:
+        return False
+    if not all([is_whole(shift, 0, shifts - 1) for shift in value]):
+        return False
+    return all([shift < other for shift, other in zip(value, value[1:])])

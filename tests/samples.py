@@ -1,7 +1,7 @@
 """Rules, values of any kind, and plain readings of the document that the tests share."""
 
 from functools import lru_cache
-from itertools import permutations, product
+from itertools import combinations, permutations, product
 from random import Random
 
 LATE = (2, ((0, 0, 0), (0, 1, 1), (1, 0, 1), (1, 1, 5)))
@@ -215,6 +215,43 @@ def random_order(random, rule):
         order.append(random.choice([step for step in left if not fours(rule, left, step)]))
         left.remove(order[-1])
     return tuple(order)
+
+
+def random_counts(random, shifts, people):
+    cuts = sorted(random.randrange(people + 1) for _ in range(shifts - 1))
+    return tuple(high - low for low, high in zip([0] + cuts, cuts + [people]))
+
+
+def random_sums(random, rule, people):
+    """Sums of so many people, whether there is a table with them or not."""
+    return random_counts(random, rule[0], people), random_counts(random, rule[0], people)
+
+
+def sums_of_rows(table):
+    return tuple(map(sum, table)), tuple(map(sum, zip(*table)))
+
+
+def drawn_sums(random, rule, people):
+    """Sums of at most so many people, half of them those of a table."""
+    if random.randrange(2):
+        return sums_of_rows(random_table(random, rule, people))
+    return random_sums(random, rule, people)
+
+
+def all_sets_of(shifts):
+    return [chosen for many in range(shifts + 1) for chosen in combinations(range(shifts), many)]
+
+
+def next_shifts_by_words(rule, shifts):
+    return tuple(j for j in range(rule[0]) if any((i, j) in prices_by_pair(rule) for i in shifts))
+
+
+def barriers_by_words(rule, sums):
+    """All barriers for the sums."""
+    return [
+        chosen for chosen in all_sets_of(rule[0])
+        if sum(sums[0][i] for i in chosen) > sum(sums[1][j] for j in next_shifts_by_words(rule, chosen))
+    ]
 
 
 def filled_by_words(rule, steps, sums):

@@ -59,6 +59,29 @@ STAGE_7 = """
     (((0, 1, 0), (0, 0, 1), (1, 0, 0)), 1, 2)
 """
 
+STAGE_8 = """
+    >>> from swaprings.barriers import barrier_for, next_shifts, table_for
+    >>> steep = (2, ((0, 0, 0), (1, 0, 0), (1, 1, 0)))
+    >>> (next_shifts(steep, (0,)), barrier_for(steep, ((2, 1), (1, 2))), table_for(steep, ((1, 2), (2, 1))))
+    ((0,), (0,), ((1, 0), (1, 1)))
+"""
+
+STAGE_9 = """
+    >>> from swaprings.limits import least_of, most_of, upper
+    >>> from swaprings.prices import least_price, worth
+    >>> late = (2, ((0, 0, 0), (0, 1, 1), (1, 0, 1), (1, 1, 5)))
+    >>> pair, five = ((1, 1), (1, 1)), ((2, 3), (1, 4))
+    >>> (least_price(late, pair), worth(pair, ((0, 1), (0, 1))), most_of(late, five, (1, 1)), least_of(late, five, (1, 1)), upper(late, five, (1, 1), (0,)))
+    (2, 2, 3, 2, 3)
+"""
+
+STAGE_10 = """
+    >>> from swaprings.spares import spares_of, spare_way
+    >>> free = (4, ((0, 0, 0), (0, 1, 0), (0, 3, 0), (1, 1, 0), (1, 2, 0), (1, 3, 0), (2, 0, 0), (2, 2, 0), (2, 3, 0), (3, 0, 0), (3, 1, 0), (3, 2, 0), (3, 3, 0)))
+    >>> (spares_of(free), len(spare_way(free, ((0, 0), (1, 1), (2, 2)), (3, 3))))
+    (((3, 3),), 4)
+"""
+
 
 class Examples(unittest.TestCase):
     def run_example(self, name, text):
@@ -89,6 +112,15 @@ class Examples(unittest.TestCase):
 
     def test_stage_7(self):
         self.run_example("stage 7", STAGE_7)
+
+    def test_stage_8(self):
+        self.run_example("stage 8", STAGE_8)
+
+    def test_stage_9(self):
+        self.run_example("stage 9", STAGE_9)
+
+    def test_stage_10(self):
+        self.run_example("stage 10", STAGE_10)
 
     def test_readme(self):
         self.run_example("README.md", README.read_text("ascii"))

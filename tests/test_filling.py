@@ -10,8 +10,8 @@ from swaprings.orders import is_order, least_order
 from swaprings.rules import steps_of
 from swaprings.tables import price_of_table, require_sums, require_table, sums_of
 from tests.samples import (
-    BOTH, CLIMBING, EMPTY, FALLING, FULL, LATE, SIX, STEEP, fours, random_order, random_rules, random_table,
-    tables_with,
+    BOTH, CLIMBING, EMPTY, FALLING, FULL, LATE, SIX, STEEP, fours, random_order, random_rules, random_sums,
+    random_table, tables_with,
 )
 
 MOST = 10 ** 30
@@ -22,15 +22,6 @@ ORDERLY = [rule for rule in RULES if least_order(rule) is not None]
 
 def shuffled(random, steps):
     return tuple(random.sample(steps, len(steps)))
-
-
-def random_counts(random, shifts, people):
-    cuts = sorted(random.randrange(people + 1) for _ in range(shifts - 1))
-    return tuple(high - low for low, high in zip([0] + cuts, cuts + [people]))
-
-
-def random_sums(random, rule, people):
-    return random_counts(random, rule[0], people), random_counts(random, rule[0], people)
 
 
 def filled_cell_by_cell(rule, steps, sums):

@@ -37,6 +37,23 @@ INTERFACE = {
         "calm_way": ["rule", "order", "table"], "way_between": ["rule", "table", "other", "most"],
         "walked": ["rule", "table", "way"], "reached": ["rule", "table", "most"],
     },
+    "barriers": {
+        "next_shifts": ["rule", "shifts"], "is_barrier": ["rule", "sums", "value"], "table_for": ["rule", "sums"],
+        "barrier_for": ["rule", "sums"],
+    },
+    "prices": {
+        "is_potentials": ["rule", "value"], "worth": ["sums", "potentials"], "cheapest": ["rule", "sums"],
+        "least_price": ["rule", "sums"], "potentials_for": ["rule", "sums"],
+    },
+    "limits": {
+        "least_of": ["rule", "sums", "step"], "most_of": ["rule", "sums", "step"],
+        "upper": ["rule", "sums", "step", "shifts"], "lower": ["rule", "sums", "step", "shifts"],
+        "sure_steps": ["rule", "sums"], "idle_steps": ["rule", "sums"],
+    },
+    "spares": {
+        "is_spare": ["rule", "ring", "step"], "spare_way": ["rule", "ring", "step"], "spare_steps": ["rule"],
+        "spares_of": ["rule"],
+    },
 }
 
 LIBRARY = ("heapq", "math", "itertools", "collections")
