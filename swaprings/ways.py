@@ -4,6 +4,7 @@ from swaprings.errors import CannotTurn
 from swaprings.rings import bare_rings, begun_at_least, chords, halves
 from swaprings.rules import steps_of
 from swaprings.tables import steps_behind, turned
+from swaprings.values import MOST_PEOPLE
 
 
 def calm_way(rule, order, table):
@@ -15,12 +16,18 @@ def calm_way(rule, order, table):
         # turns, so the step has as many people as it is filled with.
         for l in [second for first, second in later if first == i]:
             for k in [first for first, second in later if second == j]:
-                times = min(table[i][l], table[k][j])
-                if times > 0:
-                    ring = begun_at_least(((i, l), (k, j)))
+                ring = begun_at_least(((i, l), (k, j)))
+                times = _most_times(table, ring)
+                while times > 0:
                     table = turned(rule, table, ring, times)
                     way.append((ring, times))
+                    times = _most_times(table, ring)
     return tuple(way)
+
+
+def _most_times(table, ring):
+    """Returns how many times the ring can be done in one turn."""
+    return min([MOST_PEOPLE] + [table[i][j] for i, j in ring])
 
 
 def way_between(rule, table, other, most):
@@ -48,7 +55,7 @@ def agreeing_turns(cells):
     ring = _agreeing_ring(rows)
     while ring is not None:
         behind = steps_behind(ring)
-        times = min([-rows[i][j] for i, j in ring] + [rows[i][j] for i, j in behind])
+        times = min([MOST_PEOPLE] + [-rows[i][j] for i, j in ring] + [rows[i][j] for i, j in behind])
         for i, j in ring:
             rows[i][j] = rows[i][j] + times
         for i, j in behind:

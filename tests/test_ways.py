@@ -93,6 +93,10 @@ class CalmWay(Ways):
                 table = tuple(tuple(random.choice((1, 2, 5, 10 ** 28)) for _ in range(5)) for _ in range(5))
                 self.check(rule, random_order(random, rule), table)
 
+    def test_somewhat_more_people_than_a_turn_may_have(self):
+        table = ((3 * MOST, 0), (0, 3 * MOST + 1))
+        self.assertEqual(self.check(LATE, least_order(LATE), table), ((((0, 0), (1, 1)), MOST),) * 3)
+
     def test_the_first_turns_may_keep_the_price(self):
         # From this table no single turn makes it cheaper, though it is not a cheapest one.
         seen = 0
@@ -132,6 +136,11 @@ class WayBetween(Ways):
         )
         nobody = ((0,) * 3,) * 3
         self.assertEqual(self.check(EMPTY, nobody, nobody, 2), ())
+
+    def test_somewhat_more_people_than_a_turn_may_have(self):
+        table, other = ((3 * MOST, 0), (0, 3 * MOST + 1)), ((1, 3 * MOST - 1), (3 * MOST - 1, 2))
+        turn = (((0, 0), (1, 1)), MOST)
+        self.assertEqual(self.check(LATE, table, other, 2), (turn, turn, (turn[0], MOST - 1)))
 
     def test_a_ring_with_chords_becomes_rings_of_two(self):
         for many in (2, 3, 4, 5):
