@@ -25,6 +25,23 @@ def require_rule(value):
     return value
 
 
+def is_rule(value):
+    """Tells whether the value is a rule."""
+    try:
+        require_rule(value)
+    except InvalidRule:
+        return False
+    return True
+
+
+def first_wrong_rule(values):
+    """Returns the index of the first that is no rule, or has other shifts than the first one; None if there is none."""
+    for index, value in enumerate(values):
+        if not is_rule(value) or value[0] != values[0][0]:
+            return index
+    return None
+
+
 def _is_priced_step(value, shifts):
     if not is_tuple_of(value, 3):
         return False

@@ -32,17 +32,17 @@ def spare_steps(rule):
 
 def spares_of(rule):
     """Returns spares of the rule from which no step can be left out, None if there are none."""
-    choices = [[spare for spare in steps_of(rule) if is_spare(rule, ring, spare)] for ring in bare_rings(rule)]
-    if not _have_each(choices, steps_of(rule)):
+    spares = [[spare for spare in steps_of(rule) if is_spare(rule, ring, spare)] for ring in bare_rings(rule)]
+    if not _have_each(spares, steps_of(rule)):
         return None
     kept = steps_of(rule)
     for step in steps_of(rule):
         fewer = tuple([other for other in kept if other != step])
-        if _have_each(choices, fewer):
+        if _have_each(spares, fewer):
             kept = fewer
     return kept
 
 
-def _have_each(choices, steps):
-    """Tells whether at least one of each of the choices is among the steps."""
-    return all([any([step in steps for step in choice]) for choice in choices])
+def _have_each(spares, steps):
+    """Tells whether at least one of each of the spares is among the steps."""
+    return all([any([step in steps for step in choice]) for choice in spares])

@@ -51,7 +51,7 @@ def _parts_of(rule, ring, most):
 def agreeing_turns(cells):
     """Returns turns that agree and together add the cells to a table; each row and column has the sum 0."""
     rows = [list(row) for row in cells]
-    turns = []
+    found = []
     ring = _agreeing_ring(rows)
     while ring is not None:
         behind = steps_behind(ring)
@@ -60,9 +60,9 @@ def agreeing_turns(cells):
             rows[i][j] = rows[i][j] + times
         for i, j in behind:
             rows[i][j] = rows[i][j] - times
-        turns.append((ring, times))
+        found.append((ring, times))
         ring = _agreeing_ring(rows)
-    return turns
+    return found
 
 
 def _agreeing_ring(rows):

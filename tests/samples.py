@@ -262,3 +262,80 @@ def filled_by_words(rule, steps, sums):
         many = min(rows[i], columns[j])
         rows[i], columns[j], price = rows[i] - many, columns[j] - many, price + many * prices[i, j]
     return None if any(rows) else price
+
+
+def random_plan(random, shifts, people, days=None, closed=None, chance=70):
+    """A plan with a roster or without one, endless or not."""
+    days = random.randrange(1, 8) if days is None else days
+    closed = days == 1 or random.random() < 0.5 if closed is None else closed
+    rules = tuple(random_rule(random, shifts, chance) for _ in range(days if closed else days - 1))
+    if closed or not 0 < people < 50 or random.randrange(3) == 0:
+        return tuple(random_counts(random, shifts, people) for _ in range(days)), rules
+    rows = [[random.randrange(shifts)] for _ in range(people)]
+    for rule in rules:
+        for row in rows:
+            row.append(random.choice([j for i, j, _ in rule[1] if i == row[-1]] or [random.randrange(shifts)]))
+    return needs_of(shifts, rows), rules
+
+
+def needs_of(shifts, rows):
+    return tuple(tuple(day.count(shift) for shift in range(shifts)) for day in zip(*rows))
+
+
+def following_steps(rota, r):
+    """The steps of row r, the last one to the row that follows."""
+    rows, follow = rota
+    return list(zip(rows[r], rows[r][1:] + rows[follow[r]][:1]))
+
+
+def random_rota(random, shifts, days, many, spread=None, extra=20):
+    """An endless plan and a rota of it: the steps that its rows take are allowed, and some others."""
+    few = random.choice((1, 1, 1, 2, shifts))
+    kinds = [[random.randrange(shifts)] * days for _ in range(spread or many)]
+    kinds = [tuple(random.choice((shift, random.randrange(0, shifts, few))) for shift in kind) for kind in kinds]
+    rows = tuple(random.choice(kinds) for _ in range(many))
+    follow, moved = list(range(many)), sorted(random.sample(range(many), random.choice((0, many // 3, many))))
+    for r, other in zip(moved, random.sample(moved, len(moved))):
+        follow[r] = other
+    rota = rows, tuple(follow)
+    used = [following_steps(rota, r) for r in range(many)]
+    rules = tuple(
+        (shifts, tuple(
+            (i, j, random.randrange(-99, 100)) for i, j in product(range(shifts), repeat=2)
+            if (i, j) in [steps[t] for steps in used] or random.randrange(100) < extra
+        )) for t in range(days)
+    )
+    return (needs_of(shifts, rows), rules), rota
+
+
+def tables_by_words(plan, rota):
+    used = [following_steps(rota, r) for r in range(len(rota[0]))]
+    shifts = range(plan[1][0][0])
+    return tuple(
+        tuple(tuple([steps[t] for steps in used].count((i, j)) for j in shifts) for i in shifts)
+        for t in range(len(plan[1]))
+    )
+
+
+def rounds_by_words(rota):
+    """The rounds of the rota, each a set of indices of rows."""
+    found = []
+    for r in range(len(rota[0])):
+        gone, at = {r}, rota[1][r]
+        while at != r:
+            gone.add(at)
+            at = rota[1][at]
+        if gone not in found:
+            found.append(gone)
+    return found
+
+
+def pieces_by_words(plan, rota):
+    """The pieces, by joining places until nothing is joined any more."""
+    days = len(plan[0])
+    found = [{(t, i)} for t in range(days) for i, many in enumerate(plan[0][t]) if many]
+    for r in range(len(rota[0])):
+        for t, (i, j) in enumerate(following_steps(rota, r)):
+            ends = {(t, i), ((t + 1) % days, j)}
+            found = [piece for piece in found if not piece & ends] + [set().union(*[p for p in found if p & ends])]
+    return tuple(sorted(tuple(sorted(piece)) for piece in found))

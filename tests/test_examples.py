@@ -82,6 +82,37 @@ STAGE_10 = """
     (((3, 3),), 4)
 """
 
+STAGE_11 = """
+    >>> from swaprings.choices import cheapest_choice, choices
+    >>> six = (3, ((0, 0, 0), (0, 1, 0), (1, 1, 0), (1, 2, 0), (2, 0, 0), (2, 2, 0)))
+    >>> options = ((0, 2, 0, 5), (0, 0, None, 3))
+    >>> (list(choices(options)), cheapest_choice(six, options))
+    ([(), (1,), (0,), (0, 1)], (1,))
+"""
+
+STAGE_12 = """
+    >>> from swaprings.plans import is_endless, roster_for, row_fits
+    >>> late = (2, ((0, 0, 0), (0, 1, 1), (1, 0, 1), (1, 1, 5)))
+    >>> plan = (((1, 1), (2, 0), (1, 1)), (late, late))
+    >>> (is_endless(plan), roster_for(plan), row_fits(plan, (0, 0, 1)), row_fits(plan, (0, 1, 1)))
+    (False, (((1, 0), (1, 0)), ((1, 1), (0, 0))), True, False)
+"""
+
+STAGE_13 = """
+    >>> from swaprings.rounds import pieces, rota_changed, rounds
+    >>> late = (2, ((0, 0, 0), (0, 1, 1), (1, 0, 1), (1, 1, 5)))
+    >>> plan, rota = (((1, 1), (2, 0)), (late, late)), (((0, 0), (1, 0)), (0, 1))
+    >>> (rounds(rota), len(pieces(plan, rota)), rota_changed(rota, 1, 0, 1))
+    (2, 1, (((0, 0), (1, 0)), (1, 0)))
+"""
+
+STAGE_14 = """
+    >>> from swaprings.changes import Change
+    >>> change = Change.between(((2, 1), (0, 2)), ((0, 3), (2, 0)))
+    >>> (change.cells, list(change.turns()), (2 * change).people(), change[0, 1], -change == Change(((2, -2), (-2, 2))))
+    (((-2, 2), (2, -2)), [(((0, 0), (1, 1)), 2)], 8, 2, True)
+"""
+
 
 class Examples(unittest.TestCase):
     def run_example(self, name, text):
@@ -121,6 +152,18 @@ class Examples(unittest.TestCase):
 
     def test_stage_10(self):
         self.run_example("stage 10", STAGE_10)
+
+    def test_stage_11(self):
+        self.run_example("stage 11", STAGE_11)
+
+    def test_stage_12(self):
+        self.run_example("stage 12", STAGE_12)
+
+    def test_stage_13(self):
+        self.run_example("stage 13", STAGE_13)
+
+    def test_stage_14(self):
+        self.run_example("stage 14", STAGE_14)
 
     def test_readme(self):
         self.run_example("README.md", README.read_text("ascii"))

@@ -2,6 +2,7 @@
 
 import ast
 import builtins
+import re
 import unittest
 from pathlib import Path
 
@@ -54,13 +55,35 @@ INTERFACE = {
         "is_spare": ["rule", "ring", "step"], "spare_way": ["rule", "ring", "step"], "spare_steps": ["rule"],
         "spares_of": ["rule"],
     },
+    "choices": {
+        "require_options": ["rule", "value"], "choices": ["options"], "rule_with": ["rule", "options", "choice"],
+        "cheapest_choice": ["rule", "options"],
+    },
+    "plans": {
+        "require_plan": ["value"], "is_endless": ["plan"], "sums_for": ["plan", "t"], "roster_for": ["plan"],
+        "first_barrier": ["plan"], "cheapest_roster": ["plan"], "row_fits": ["plan", "row"],
+    },
+    "rounds": {
+        "require_rota": ["plan", "value"], "tables_of": ["plan", "rota"], "rounds": ["rota"],
+        "pieces": ["plan", "rota"], "rota_changed": ["rota", "day", "one", "other"], "fewest_rounds": ["rota"],
+    },
+}
+# For each class the arguments of its methods behind the first one; those behind a "*" are passed by name.
+CLASSES = {
+    "changes": {"Change": {
+        "__init__": ["cells"], "between": ["table", "other"], "of": ["ring", "shifts", "*", "times"], "people": [],
+        "turns": [], "applied": ["rule", "table"], "__getitem__": ["at"], "__eq__": ["other"], "__bool__": [],
+        "__add__": ["other"], "__sub__": ["other"], "__neg__": [], "__mul__": ["other"], "__rmul__": ["other"],
+    }},
 }
 
 LIBRARY = ("heapq", "math", "itertools", "collections")
 BUILTINS = """len range enumerate zip min max sum abs sorted reversed int str bool bytes list tuple dict set frozenset
-    isinstance ord repr any all divmod pow getattr hasattr setattr iter next map type super property Exception
+    isinstance ord repr any all divmod pow getattr hasattr setattr iter next map super property classmethod staticmethod Exception
     ValueError TypeError KeyError IndexError LookupError ZeroDivisionError ArithmeticError OverflowError RuntimeError
     NotImplementedError AttributeError StopIteration NotImplemented""".split()
+METHODS = """append clear copy count endswith extend find get index insert items join keys pop remove replace reverse
+    setdefault split startswith strip update values""".split()
 BARRED = (
     ast.AsyncFunctionDef, ast.AsyncFor, ast.AsyncWith, ast.Await, ast.Import, ast.Div, ast.MatMult, ast.Is, ast.IsNot,
 )
@@ -89,6 +112,18 @@ class Interface(unittest.TestCase):
             defined = {node.name: node.args for node in tree.body if isinstance(node, ast.FunctionDef)}
             for function, words in functions.items():
                 self.assertEqual([word.arg for word in defined[function].args], words, function)
+
+
+    def test_each_class_is_defined_in_its_file_with_its_methods(self):
+        for name, classes in CLASSES.items():
+            tree = ast.parse((PACKAGE / f"{name}.py").read_text("ascii"))
+            for word, methods in classes.items():
+                body = [node.body for node in tree.body if isinstance(node, ast.ClassDef) and node.name == word][0]
+                defined = {node.name: node.args for node in body if isinstance(node, ast.FunctionDef)}
+                for method, words in methods.items():
+                    told = [arg.arg for arg in defined[method].args][1:]
+                    told += ["*"] * bool(defined[method].kwonlyargs) + [arg.arg for arg in defined[method].kwonlyargs]
+                    self.assertEqual(told, words, (word, method))
 
 
 class Language(unittest.TestCase):
@@ -149,6 +184,95 @@ class Language(unittest.TestCase):
             for node in ast.walk(tree):
                 if isinstance(node, ast.Name) and isinstance(node.ctx, ast.Load):
                     self.assertIn(node.id, bound | set(BUILTINS), path)
+
+    def test_only_methods_that_builtin_values_or_own_classes_may_have(self):
+        own = {
+            node.name for _, tree in trees() for top in tree.body if isinstance(top, ast.ClassDef)
+            for node in top.body if isinstance(node, ast.FunctionDef)
+        }
+        for path, tree in trees():
+            for node in ast.walk(tree):
+                if isinstance(node, ast.Call) and isinstance(node.func, ast.Attribute):
+                    self.assertIn(node.func.attr, own | set(METHODS), path)
+                    if node.func.attr not in own:
+                        self.assertEqual(node.keywords, [], (path, node.func.attr))
+
+    def test_statements_that_operators_bar(self):
+        # One class has __iadd__, others arithmetic: then a sum in place, a generator expression in sorted and the like
+        # and a sort in place are barred in what an operator runs; they stand nowhere here.
+        barred = (ast.AugAssign, ast.GeneratorExp, ast.Lambda, ast.Global, ast.Nonlocal, ast.Match, ast.With)
+        for path, tree in trees():
+            for node in ast.walk(tree):
+                self.assertNotIsInstance(node, barred, path)
+                if isinstance(node, ast.Try):
+                    self.assertEqual((node.finalbody, node.orelse), ([], []), path)
+
+    def test_no_nested_comprehension_takes_a_name_of_its_function(self):
+        kinds = (ast.ListComp, ast.SetComp, ast.DictComp)
+        for path, tree in trees():
+            for function in [node for node in ast.walk(tree) if isinstance(node, ast.FunctionDef)]:
+                comprehensions = [node for node in ast.walk(function) if isinstance(node, kinds)]
+                within = {id(node) for outer in comprehensions for node in ast.walk(outer) if node is not outer}
+                names = {arg.arg for arg in function.args.args + function.args.kwonlyargs}
+                names |= {
+                    node.id for node in ast.walk(function)
+                    if isinstance(node, ast.Name) and isinstance(node.ctx, ast.Store) and id(node) not in within
+                }
+                for outer in comprehensions:
+                    held = set(target_names(outer))
+                    for inner in [node for node in ast.walk(outer) if isinstance(node, kinds) and node is not outer]:
+                        self.assertEqual(sorted(set(target_names(inner)) & (names | held) - {"_"}), [], function.name)
+
+    def test_sets_are_only_measured_sorted_compared_or_asked(self):
+        for path, tree in trees():
+            parents = {id(child): node for node in ast.walk(tree) for child in ast.iter_child_nodes(node)}
+            for node in ast.walk(tree):
+                is_call = isinstance(node, ast.Call) and isinstance(node.func, ast.Name) and node.func.id == "set"
+                if is_call or isinstance(node, (ast.Set, ast.SetComp)):
+                    parent = parents[id(node)]
+                    if isinstance(parent, ast.Call):
+                        self.assertIn(parent.func.id, ("sorted", "len"), path)
+                    else:
+                        self.assertIsInstance(parent, ast.Compare, path)
+
+    def test_no_import_goes_round(self):
+        goes = {path.stem: {
+            node.module.split(".")[-1] for node in ast.walk(tree)
+            if isinstance(node, ast.ImportFrom) and node.module.startswith("swaprings.")
+        } for path, tree in trees()}
+        while goes:
+            ends = [name for name, others in goes.items() if not others & set(goes)]
+            self.assertNotEqual(ends, [], goes)
+            for name in ends:
+                del goes[name]
+
+    def test_each_function_is_used_and_each_import(self):
+        told = {name for functions in INTERFACE.values() for name in functions}
+        for path, tree in trees():
+            imported = [alias.name for node in tree.body if isinstance(node, ast.ImportFrom) for alias in node.names]
+            loaded = {node.id for node in ast.walk(tree) if isinstance(node, ast.Name)}
+            self.assertEqual([name for name in imported if name not in loaded], [], path)
+            told |= set(imported) | loaded
+        for path, tree in trees():
+            for node in tree.body:
+                if isinstance(node, ast.FunctionDef):
+                    self.assertIn(node.name, told, path)
+
+    def test_words_that_stand_nowhere(self):
+        for path in FILES:
+            text = path.read_text("ascii")
+            self.assertEqual(re.findall(r"_wall|\b(?:type|enum|law|open|input|metaclass|Meta)\b", text), [], path)
+        for path, tree in trees():
+            for node in ast.walk(tree):
+                if isinstance(node, ast.Constant) and isinstance(node.value, str):
+                    self.assertNotIn("%", node.value)
+
+
+def target_names(comprehension):
+    return [
+        node.id for generator in comprehension.generators for node in ast.walk(generator.target)
+        if isinstance(node, ast.Name)
+    ]
 
 
 if __name__ == "__main__":
