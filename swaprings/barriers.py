@@ -2,7 +2,7 @@
 
 from swaprings.prices import cheapest
 from swaprings.rules import steps_of, unpriced
-from swaprings.values import is_set_of_shifts
+from swaprings.values import is_set_of
 
 
 def all_sets(shifts):
@@ -20,7 +20,7 @@ def next_shifts(rule, shifts):
 
 def is_barrier(rule, sums, value):
     """Tells whether the value is a barrier for the sums."""
-    if not is_set_of_shifts(value, rule[0]):
+    if not is_set_of(value, rule[0]):
         return False
     rows, columns = sums
     return sum([rows[i] for i in value]) > sum([columns[j] for j in next_shifts(rule, value)])

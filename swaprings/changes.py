@@ -2,7 +2,7 @@
 
 from swaprings.errors import CannotChange, InvalidChange, SizesDiffer, UnknownPlace
 from swaprings.rules import FEWEST_SHIFTS, MOST_SHIFTS, steps_of
-from swaprings.tables import steps_behind
+from swaprings.tables import added, cells_between, steps_behind
 from swaprings.values import MOST_PEOPLE, is_tuple_of, is_whole
 from swaprings.ways import agreeing_turns
 
@@ -17,7 +17,7 @@ class Change:
     @classmethod
     def between(cls, table, other):
         """Returns the change of the other table less the table."""
-        return cls(_added(other, table, -1))
+        return cls(cells_between(table, other))
 
     @classmethod
     def of(cls, ring, shifts, *, times=1):
@@ -40,7 +40,7 @@ class Change:
 
     def applied(self, rule, table):
         """Returns the table with the change added, raises CannotChange with the first place that bars it."""
-        rows = _added(table, self.cells, 1)
+        rows = added(table, self.cells, 1)
         allowed = steps_of(rule)
         for i, row in enumerate(rows):
             for j, many in enumerate(row):
@@ -69,14 +69,14 @@ class Change:
             return NotImplemented
         if len(self.cells) != len(other.cells):
             raise SizesDiffer()
-        return Change(_added(self.cells, other.cells, 1))
+        return Change(added(self.cells, other.cells, 1))
 
     def __sub__(self, other):
         if not isinstance(other, Change):
             return NotImplemented
         if len(self.cells) != len(other.cells):
             raise SizesDiffer()
-        return Change(_added(self.cells, other.cells, -1))
+        return Change(added(self.cells, other.cells, -1))
 
     def __neg__(self):
         return Change(_multiplied(self.cells, -1))
@@ -107,13 +107,6 @@ def _require_cells(value):
     for j, column in enumerate(zip(*value)):
         if sum(column) != 0:
             raise InvalidChange(("column", j))
-
-
-def _added(rows, others, times):
-    """Returns the rows with so many times the others added, place by place."""
-    return tuple([
-        tuple([number + times * more for number, more in zip(row, other)]) for row, other in zip(rows, others)
-    ])
 
 
 def _multiplied(rows, times):

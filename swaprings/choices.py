@@ -4,7 +4,7 @@ from swaprings.barriers import all_sets
 from swaprings.errors import InvalidOptions
 from swaprings.orders import least_order
 from swaprings.rules import MOST_PRICE, prices_of
-from swaprings.values import is_pair_of_shifts, is_tuple_of, is_whole
+from swaprings.values import is_pair_of_shifts, is_set_of, is_tuple_of, is_whole
 
 MOST_OPTIONS = 6
 MOST_COST = 99
@@ -43,6 +43,11 @@ def _are_apart(options, chosen):
 def cost_of(options, choice):
     """Returns what the options of the choice cost together."""
     return sum([options[index][3] for index in choice])
+
+
+def is_choice(options, value):
+    """Tells whether the value is a choice among the options."""
+    return is_set_of(value, len(options)) and _are_apart(options, value)
 
 
 def rule_with(rule, options, choice):

@@ -1,6 +1,7 @@
 """The most and the least people that a step has in the tables with some sums."""
 
 from swaprings.barriers import all_sets, barrier_for, next_shifts
+from swaprings.prices import cheapest
 from swaprings.rules import steps_of
 
 
@@ -24,6 +25,21 @@ def _most(rule, sums, step):
 
 def _least(rule, sums, step):
     return max([0] + [lower(rule, sums, step, chosen) for chosen in all_sets(rule[0]) if step[0] in chosen])
+
+
+def table_with_most(rule, sums, step):
+    """Returns a table with these sums that has the most people on the step, None if there is no table."""
+    return cheapest(_priced_alone(rule, step, -1), sums)
+
+
+def table_with_least(rule, sums, step):
+    """Returns a table with these sums that has the least people on the step, None if there is no table."""
+    return cheapest(_priced_alone(rule, step, 1), sums)
+
+
+def _priced_alone(rule, step, price):
+    """Returns the rule with this price for the step and 0 for all others."""
+    return rule[0], tuple([(i, j, price if (i, j) == step else 0) for i, j, _ in rule[1]])
 
 
 def upper(rule, sums, step, shifts):

@@ -66,14 +66,33 @@ def _least_that_may_go(prices, steps):
 
 def is_order(rule, value):
     """Tells whether the value is an order of the rule."""
+    return has_each_step(rule, value) and first_with_four(rule, value) is None
+
+
+def has_each_step(rule, value):
+    """Tells whether the value is a tuple of all steps of the rule, each once."""
     if not is_tuple_of(value, len(rule[1])):
         return False
     if not all([is_pair_of_shifts(step, rule[0]) for step in value]):
         return False
-    if tuple(sorted(value)) != steps_of(rule):
-        return False
+    return tuple(sorted(value)) == steps_of(rule)
+
+
+def first_with_four(rule, steps):
+    """Returns the index of the first step with a four against it among those from there on, or None."""
     prices = prices_of(rule)
-    return all([_least_four(prices, value[t:], step) is None for t, step in enumerate(value)])
+    for t, step in enumerate(steps):
+        if _least_four(prices, steps[t:], step) is not None:
+            return t
+    return None
+
+
+def is_four(rule, steps, step, other):
+    """Tells whether the other pair is a four against the step among the steps."""
+    (i, j), (k, l) = step, other
+    if k == i or l == j or (i, l) not in steps or (k, j) not in steps:
+        return False
+    return _is_dearer(prices_of(rule), step, other)
 
 
 def good_lines(rule):

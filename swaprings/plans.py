@@ -109,3 +109,8 @@ def first_barrier_of_others(plan, row):
         if barrier is not None:
             return t, barrier
     return None
+
+
+def roster_of_others(plan, row):
+    """Returns a table of each rule with the others' sums; there is somebody on each of the row's shifts."""
+    return _all_or_none([table_for(rule, sums_of_others(plan, row, t)) for t, rule in enumerate(plan[1])])

@@ -11,15 +11,28 @@ PRICE_WEIGHT = 32
 
 def is_potentials(rule, value):
     """Tells whether the value is potentials of the rule."""
+    return have_potentials_form(value, rule[0]) and first_below(rule, value) is None
+
+
+def have_potentials_form(value, shifts):
+    """Tells whether the value is a pair of numbers for so many shifts, as potentials are, but for the prices."""
     if not is_tuple_of(value, 2):
         return False
     for numbers in value:
-        if not is_tuple_of(numbers, rule[0]):
+        if not is_tuple_of(numbers, shifts):
             return False
         if not all([is_whole(number, -MOST_POTENTIAL, MOST_POTENTIAL) for number in numbers]):
             return False
-    firsts, seconds = value
-    return all([firsts[i] + seconds[j] <= price for i, j, price in rule[1]])
+    return True
+
+
+def first_below(rule, potentials):
+    """Returns the first step whose price is below what the potentials have for its shifts, or None."""
+    firsts, seconds = potentials
+    for i, j, price in rule[1]:
+        if price < firsts[i] + seconds[j]:
+            return i, j
+    return None
 
 
 def worth(sums, potentials):

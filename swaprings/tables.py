@@ -7,12 +7,13 @@ from swaprings.values import MOST_PEOPLE, are_counts, is_pair_of_shifts, is_tupl
 
 def require_sums(rule, value):
     """Returns the value if it is sums for the rule's shifts, raises InvalidSums otherwise."""
-    if not _are_sums(value, rule[0]):
+    if not are_sums(value, rule[0]):
         raise InvalidSums()
     return value
 
 
-def _are_sums(value, shifts):
+def are_sums(value, shifts):
+    """Tells whether the value is sums for so many shifts."""
     if not is_tuple_of(value, 2):
         return False
     if not all([are_counts(counts, shifts) for counts in value]):
@@ -29,7 +30,7 @@ def require_table(rule, value):
     for i, row in enumerate(value):
         if not are_counts(row, shifts):
             raise InvalidTable(("row", i))
-    barred = _first_barred(rule, value)
+    barred = first_barred(rule, value)
     if barred is not None:
         raise InvalidTable(("barred", barred[0], barred[1]))
     if sum([sum(row) for row in value]) > MOST_PEOPLE:
@@ -37,7 +38,8 @@ def require_table(rule, value):
     return value
 
 
-def _first_barred(rule, rows):
+def first_barred(rule, rows):
+    """Returns the first place, row by row, that is barred and has people, or None."""
     allowed = steps_of(rule)
     for i, row in enumerate(rows):
         for j, many in enumerate(row):
@@ -51,6 +53,18 @@ def sums_of(table):
     rows = tuple([sum(row) for row in table])
     columns = tuple([sum(column) for column in zip(*table)])
     return rows, columns
+
+
+def cells_between(table, other):
+    """Returns the other table less the table, place by place."""
+    return added(other, table, -1)
+
+
+def added(rows, others, times):
+    """Returns the rows with so many times the others added, place by place."""
+    return tuple([
+        tuple([number + times * more for number, more in zip(row, other)]) for row, other in zip(rows, others)
+    ])
 
 
 def price_of_table(rule, table):

@@ -6,7 +6,7 @@ from swaprings.tables import turned
 
 def are_joined(rule, people, most):
     """Tells whether all tables of so many people are joined by rings of at most most people."""
-    return _parting_ring(rule, people, most) is None
+    return parting_ring(rule, people, most) is None
 
 
 def least_parted(rule, most):
@@ -16,7 +16,7 @@ def least_parted(rule, most):
 
 def parted(rule, people, most):
     """Returns two tables of so many people that no way of such rings joins, None if all are joined."""
-    ring = _parting_ring(rule, people, most)
+    ring = parting_ring(rule, people, most)
     if ring is None:
         return None
     rows = [[0] * rule[0] for _ in range(rule[0])]
@@ -28,7 +28,7 @@ def parted(rule, people, most):
     return table, turned(rule, table, ring, 1)
 
 
-def _parting_ring(rule, people, most):
+def parting_ring(rule, people, most):
     """Returns the least bare ring of more than most and at most people people, or None."""
     rings = [ring for ring in bare_rings(rule) if most < len(ring) <= people]
     return rings[0] if rings else None

@@ -30,10 +30,13 @@ def are_counts(value, many):
     return all([is_whole(count, 0, MOST_PEOPLE) for count in value])
 
 
-def is_set_of_shifts(value, shifts):
-    """Tells whether the value is a strictly ascending tuple of some of so many shifts."""
-    if not isinstance(value, tuple) or len(value) > shifts:
+def is_set_of(value, many):
+    """Tells whether the value is a strictly ascending tuple of some of so many shifts, people or other indices."""
+    if not isinstance(value, tuple) or len(value) > many:
         return False
-    if not all([is_whole(shift, 0, shifts - 1) for shift in value]):
-        return False
-    return all([shift < other for shift, other in zip(value, value[1:])])
+    return all([is_whole(index, 0, many - 1) for index in value]) and is_ascending(value)
+
+
+def is_ascending(value):
+    """Tells whether the tuple is strictly ascending."""
+    return all([part < other for part, other in zip(value, value[1:])])

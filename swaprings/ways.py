@@ -3,7 +3,7 @@
 from swaprings.errors import CannotTurn
 from swaprings.rings import bare_rings, begun_at_least, chords, halves
 from swaprings.rules import steps_of
-from swaprings.tables import steps_behind, turned
+from swaprings.tables import cells_between, steps_behind, turned
 from swaprings.values import MOST_PEOPLE
 
 
@@ -32,20 +32,18 @@ def _most_times(table, ring):
 
 def way_between(rule, table, other, most):
     """Returns a way of rings of at most most people from the table to the other one."""
-    shifts = range(rule[0])
-    cells = [[other[i][j] - table[i][j] for j in shifts] for i in shifts]
     way = []
-    for ring, times in agreeing_turns(cells):
-        way.extend([(part, times) for part in _parts_of(rule, ring, most)])
+    for ring, times in agreeing_turns(cells_between(table, other)):
+        way.extend([(part, times) for part in parts_of(rule, ring, most)])
     return tuple(way)
 
 
-def _parts_of(rule, ring, most):
+def parts_of(rule, ring, most):
     """Returns rings of at most most people that do the same as the ring, one after the other."""
     if len(ring) <= most:
         return [ring]
     first, second = halves(rule, ring, chords(rule, ring)[0])
-    return _parts_of(rule, first, most) + _parts_of(rule, second, most)
+    return parts_of(rule, first, most) + parts_of(rule, second, most)
 
 
 def agreeing_turns(cells):
@@ -95,9 +93,27 @@ def walked(rule, table, way):
 
 def reached(rule, table, most):
     """Returns the ascending tuple of all tables to which ways of rings of at most most people lead."""
+    return tuple(sorted(_came_from(rule, table, most)))
+
+
+def way_within(rule, table, other, most):
+    """Returns a way of rings of at most most people from the table to the other one, or None."""
+    came = _came_from(rule, table, most)
+    if other not in came:
+        return None
+    way = []
+    current = other
+    while came[current] is not None:
+        current, ring = came[current]
+        way.append((ring, 1))
+    return tuple(way[::-1])
+
+
+def _came_from(rule, table, most):
+    """Returns for each table that is reached the one ahead of it and the ring between, None for the table itself."""
     # What a ring with a chord does, its halves do, so only the others need to be tried.
     rings = _rings_of_two(rule) + [ring for ring in bare_rings(rule) if len(ring) <= most]
-    found = {table: True}
+    found = {table: None}
     waiting = [table]
     while waiting:
         current = waiting.pop()
@@ -106,9 +122,9 @@ def reached(rule, table, most):
                 continue
             after = turned(rule, current, ring, 1)
             if after not in found:
-                found[after] = True
+                found[after] = (current, ring)
                 waiting.append(after)
-    return tuple(sorted(found))
+    return found
 
 
 def _rings_of_two(rule):

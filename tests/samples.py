@@ -339,3 +339,61 @@ def pieces_by_words(plan, rota):
             ends = {(t, i), ((t + 1) % days, j)}
             found = [piece for piece in found if not piece & ends] + [set().union(*[p for p in found if p & ends])]
     return tuple(sorted(tuple(sorted(piece)) for piece in found))
+
+
+def handed_round(rows, day, people):
+    """The rows behind the deed, by words."""
+    after = list(rows)
+    for at, person in enumerate(people):
+        after[person] = rows[person][:day + 1] + rows[people[(at + 1) % len(people)]][day + 1:]
+    return tuple(after)
+
+
+def can_be_handed_round(rules, rows, day, people):
+    after = handed_round(rows, day, people)
+    return all((after[person][day], after[person][day + 1]) in prices_by_pair(rules[day]) for person in people)
+
+
+def random_people(random, shifts, days, many, chance=60, priced=True, together=None):
+    """The rules and the rows of a roster of people, made so that all the rows' steps are allowed."""
+    rows = tuple(tuple(random.randrange(shifts) for _ in range(days + 1)) for _ in range(many))
+    rules = tuple(
+        (shifts, tuple(
+            (i, j, random.randrange(-9, 10) if priced else 0) for i, j in product(range(shifts), repeat=2)
+            if (i, j) in [(row[t], row[t + 1]) for row in rows] or random.randrange(100) < chance
+        )) for t in range(days)
+    )
+    return rules, rows
+
+
+def rosters_reached(rules, rows, taking, most, limit=100_000):
+    """All rows to which deeds of at most so many of those who take part lead."""
+    found, waiting = {rows}, [rows]
+    while waiting:
+        current = waiting.pop()
+        for many in range(2, min(most, len(taking)) + 1):
+            for people in permutations(taking, many):
+                if people[0] != min(people):
+                    continue
+                for day in range(len(rules)):
+                    if can_be_handed_round(rules, current, day, people):
+                        after = handed_round(current, day, people)
+                        if after not in found:
+                            found.add(after)
+                            waiting.append(after)
+                            assert len(found) < limit
+    return found
+
+
+def crew_by_words(rule):
+    return max([len(ring) for ring in bare_rings_by_words(rule)], default=2)
+
+
+def has_order_by_words(rule):
+    left = sorted(prices_by_pair(rule))
+    while left:
+        free = [step for step in left if not fours(rule, left, step)]
+        if not free:
+            return False
+        left.remove(free[0])
+    return True

@@ -113,6 +113,37 @@ STAGE_14 = """
     (((-2, 2), (2, -2)), [(((0, 0), (1, 1)), 2)], 8, 2, True)
 """
 
+STAGE_15 = """
+    >>> from swaprings.claims import decide
+    >>> late = (2, ((0, 0, 0), (0, 1, 1), (1, 0, 1), (1, 1, 5)))
+    >>> six = (3, ((0, 0, 0), (0, 1, 0), (1, 1, 0), (1, 2, 0), (2, 0, 0), (2, 2, 0)))
+    >>> (decide(("order", late))[0], decide(("order", six))[0], decide(("joined", six, 2, 2))[0])
+    ('shown', 'broken', 'shown')
+"""
+
+STAGE_16 = """
+    >>> from swaprings.checker import first_fault
+    >>> late = (2, ((0, 0, 0), (0, 1, 1), (1, 0, 1), (1, 1, 5)))
+    >>> order = ((0, 0), (0, 1), (1, 0), (1, 1))
+    >>> (first_fault(("shown", ("order", late), order)), first_fault(("shown", ("order", late), order[1:] + order[:1])))
+    (('four', 0), None)
+"""
+
+STAGE_17 = """
+    >>> from swaprings.rosters import Roster
+    >>> late = (2, ((0, 0, 0), (0, 1, 1), (1, 0, 1), (1, 1, 5)))
+    >>> roster = Roster((late, late), ((0, 0, 1), (1, 1, 0)))
+    >>> (roster.price(), roster.can_have(0, 1, 1), len(roster.settle()) > 0, roster.price(), roster.rows())
+    (7, True, True, 4, ((0, 1, 0), (1, 0, 1)))
+"""
+
+STAGE_18 = """
+    >>> from swaprings.texts import format_plan, format_rule, format_table
+    >>> late = (2, ((0, 0, 0), (0, 1, 1), (1, 0, 1), (1, 1, 5)))
+    >>> (format_rule(late), format_table(((0, 3), (2, 0))), format_plan((((1, 1),), (late,)))[:19])
+    ('shifts 2\\nstep 0 0 0\\nstep 0 1 1\\nstep 1 0 1\\nstep 1 1 5\\n', 'row 0 3\\nrow 2 0\\n', 'shifts 2\\nneed 1 1\\nr')
+"""
+
 
 class Examples(unittest.TestCase):
     def run_example(self, name, text):
@@ -164,6 +195,18 @@ class Examples(unittest.TestCase):
 
     def test_stage_14(self):
         self.run_example("stage 14", STAGE_14)
+
+    def test_stage_15(self):
+        self.run_example("stage 15", STAGE_15)
+
+    def test_stage_16(self):
+        self.run_example("stage 16", STAGE_16)
+
+    def test_stage_17(self):
+        self.run_example("stage 17", STAGE_17)
+
+    def test_stage_18(self):
+        self.run_example("stage 18", STAGE_18)
 
     def test_readme(self):
         self.run_example("README.md", README.read_text("ascii"))

@@ -67,6 +67,12 @@ INTERFACE = {
         "require_rota": ["plan", "value"], "tables_of": ["plan", "rota"], "rounds": ["rota"],
         "pieces": ["plan", "rota"], "rota_changed": ["rota", "day", "one", "other"], "fewest_rounds": ["rota"],
     },
+    "claims": {"require_claim": ["claim"], "decide": ["claim"]},
+    "checker": {"first_fault": ["certificate"]},
+    "texts": {
+        "format_rule": ["rule"], "format_table": ["table"], "format_plan": ["plan"], "parse_rule": ["text"],
+        "parse_table": ["text"], "parse_plan": ["text"],
+    },
 }
 # For each class the arguments of its methods behind the first one; those behind a "*" are passed by name.
 CLASSES = {
@@ -74,6 +80,13 @@ CLASSES = {
         "__init__": ["cells"], "between": ["table", "other"], "of": ["ring", "shifts", "*", "times"], "people": [],
         "turns": [], "applied": ["rule", "table"], "__getitem__": ["at"], "__eq__": ["other"], "__bool__": [],
         "__add__": ["other"], "__sub__": ["other"], "__neg__": [], "__mul__": ["other"], "__rmul__": ["other"],
+    }},
+    "rosters": {"Roster": {
+        "__init__": ["rules", "rows", "*", "together"], "__len__": [], "__getitem__": ["at"], "__iadd__": ["deeds"],
+        "rows": [], "price": [], "absent": [], "table": ["day"], "exchange": ["day", "one", "other"],
+        "hand_round": ["day", "people"], "sit_out": ["person"], "take_part": ["person"], "deeds": [], "back": [],
+        "again": [], "change_rule": ["day", "rule"], "settle": [], "can_have": ["person", "day", "shift"],
+        "wish": ["person", "day", "shift"], "become": ["rows"],
     }},
 }
 
@@ -234,6 +247,76 @@ class Language(unittest.TestCase):
                         self.assertIn(parent.func.id, ("sorted", "len"), path)
                     else:
                         self.assertIsInstance(parent, ast.Compare, path)
+
+    def test_ranges_and_the_like_are_iterated_at_once(self):
+        takers = ("list", "tuple", "dict", "sorted", "sum", "any", "all", "enumerate", "zip", "min", "max", "len")
+        for path, tree in trees():
+            parents = {id(child): node for node in ast.walk(tree) for child in ast.iter_child_nodes(node)}
+            for node in ast.walk(tree):
+                if not isinstance(node, ast.Call):
+                    continue
+                is_view = isinstance(node.func, ast.Attribute) and node.func.attr in ("items", "keys", "values")
+                if not is_view and getattr(node.func, "id", None) not in ("range", "zip", "enumerate", "reversed"):
+                    continue
+                parent = parents[id(node)]
+                if isinstance(parent, ast.Call):
+                    self.assertIn(parent.func.id, takers, (path, ast.unparse(parent)))
+                    self.assertIs(parent.args[0], node, (path, ast.unparse(parent)))
+                elif isinstance(parent, ast.Assign):
+                    self.assertEqual(node.func.id, "range", (path, ast.unparse(parent)))
+                else:
+                    self.assertIsInstance(parent, (ast.For, ast.comprehension), (path, ast.unparse(parent)))
+                    self.assertIs(parent.iter, node, (path, ast.unparse(parent)))
+
+    def test_kept_ranges_are_not_passed_on(self):
+        for path, tree in trees():
+            for function in [node for node in ast.walk(tree) if isinstance(node, ast.FunctionDef)]:
+                kept = [
+                    node.targets[0].id for node in ast.walk(function)
+                    if isinstance(node, ast.Assign) and isinstance(node.value, ast.Call)
+                    and getattr(node.value.func, "id", None) == "range"
+                ]
+                self.assertEqual(len(kept), len(set(kept)), path)
+                for node in ast.walk(function):
+                    if isinstance(node, ast.Call) and getattr(node.func, "id", None) not in ("list", "tuple", "len"):
+                        self.assertEqual([arg.id for arg in node.args if getattr(arg, "id", None) in kept], [], path)
+                    if isinstance(node, ast.Return):
+                        self.assertNotIn(getattr(node.value, "id", None), kept, path)
+
+    def test_no_local_name_is_that_of_an_import(self):
+        for path, tree in trees():
+            imported = {alias.name for node in tree.body if isinstance(node, ast.ImportFrom) for alias in node.names}
+            imported |= {node.name for node in tree.body if isinstance(node, ast.ClassDef)}
+            for function in [node for node in ast.walk(tree) if isinstance(node, ast.FunctionDef)]:
+                names = {node.arg for node in ast.walk(function.args) if isinstance(node, ast.arg)}
+                names |= {
+                    node.id for node in ast.walk(function)
+                    if isinstance(node, ast.Name) and isinstance(node.ctx, ast.Store)
+                }
+                self.assertEqual(sorted(names & imported), [], (path, function.name))
+
+    def test_generators_are_iterated_at_once(self):
+        generators = {
+            function.name for _, tree in trees() for function in ast.walk(tree)
+            if isinstance(function, ast.FunctionDef)
+            and any(isinstance(node, (ast.Yield, ast.YieldFrom)) for node in ast.walk(function))
+        }
+        for path, tree in trees():
+            parents = {id(child): node for node in ast.walk(tree) for child in ast.iter_child_nodes(node)}
+            for node in ast.walk(tree):
+                name = getattr(node, "id", None) or getattr(node, "attr", None)
+                if name not in generators or isinstance(getattr(node, "ctx", None), ast.Store):
+                    continue
+                if isinstance(node, ast.Name) and not isinstance(parents[id(node)], ast.Call):
+                    continue
+                call = parents[id(node)]
+                if call.func is not node:
+                    continue
+                parent = parents[id(call)]
+                if isinstance(parent, ast.Call):
+                    self.assertIn(parent.func.id, ("list", "tuple", "sorted"), path)
+                else:
+                    self.assertIsInstance(parent, (ast.For, ast.comprehension), path)
 
     def test_no_import_goes_round(self):
         goes = {path.stem: {
