@@ -4,9 +4,7 @@ from swaprings.claims import require_claim
 from swaprings.errors import InvalidClaim
 from swaprings.faults_of_days import fault_of_have, fault_of_plan, fault_of_rounds, fault_of_row
 from swaprings.faults_of_rules import fault_of_crew, fault_of_joined, fault_of_mend, fault_of_order
-from swaprings.faults_of_tables import (
-    fault_of_least, fault_of_most, fault_of_price, fault_of_table_claim, fault_of_way,
-)
+from swaprings.faults_of_tables import fault_of_limit, fault_of_price, fault_of_table_claim, fault_of_way
 from swaprings.papers import has_shape
 from swaprings.values import is_tuple_of
 
@@ -44,10 +42,8 @@ def _fault_of(claim, is_shown, paper):
         return fault_of_table_claim(claim, is_shown, paper)
     if kind == "price":
         return fault_of_price(claim, is_shown, paper)
-    if kind == "most":
-        return fault_of_most(claim, is_shown, paper)
-    if kind == "least":
-        return fault_of_least(claim, is_shown, paper)
+    if kind == "most" or kind == "least":
+        return fault_of_limit(claim, is_shown, paper)
     if kind == "plan":
         return fault_of_plan(claim, is_shown, paper)
     if kind == "row":

@@ -3,7 +3,7 @@
 from swaprings.barriers import all_sets, barrier_for, table_for
 from swaprings.choices import cheapest_choice, choices, cost_of, rule_with
 from swaprings.deeds import ANY_NUMBER, deeds_to_shift, shifts_in_reach, table_of
-from swaprings.limits import least_of, lower, most_of, table_with_least, table_with_most, upper
+from swaprings.limits import MOST, bound_at, is_beyond, least_of, most_of, table_at, upper
 from swaprings.orders import four_against, least_order, stuck_steps
 from swaprings.plans import (
     first_barred_day, first_barrier, first_barrier_of_others, first_short_day, roster_for, roster_of_others,
@@ -93,36 +93,23 @@ def _none_shown(number, barrier):
     return "broken", ("none", barrier)
 
 
-def _most(claim):
-    _, rule, sums, step, many = claim
+def _limit(claim):
+    """The most and the least of a step."""
+    kind, rule, sums, step, many = claim
     barrier = barrier_for(rule, sums)
     if barrier is not None:
         return _none_shown(many, barrier)
-    most = most_of(rule, sums, step)
-    if many is None or most > many:
-        return "broken", ("table", table_with_most(rule, sums, step))
-    sets = [chosen for chosen in all_sets(rule[0]) if step[0] not in chosen]
-    bounding = [chosen for chosen in sets if upper(rule, sums, step, chosen) == most][0]
-    if most < many:
+    right = most_of(rule, sums, step) if kind == MOST else least_of(rule, sums, step)
+    table = table_at(kind, rule, sums, step)
+    if many is None or is_beyond(kind, right, many):
+        return "broken", ("table", table)
+    if kind != MOST and right == 0:
+        return "shown", (table, ())
+    sets = [chosen for chosen in all_sets(rule[0]) if (step[0] in chosen) == (kind != MOST)]
+    bounding = [chosen for chosen in sets if bound_at(kind, rule, sums, step, chosen) == right][0]
+    if many != right:
         return "broken", ("bound", bounding)
-    return "shown", (table_with_most(rule, sums, step), bounding)
-
-
-def _least(claim):
-    _, rule, sums, step, many = claim
-    barrier = barrier_for(rule, sums)
-    if barrier is not None:
-        return _none_shown(many, barrier)
-    least = least_of(rule, sums, step)
-    if many is None or least < many:
-        return "broken", ("table", table_with_least(rule, sums, step))
-    if least == 0:
-        return "shown", (table_with_least(rule, sums, step), ())
-    sets = [chosen for chosen in all_sets(rule[0]) if step[0] in chosen]
-    bounding = [chosen for chosen in sets if lower(rule, sums, step, chosen) == least][0]
-    if least > many:
-        return "broken", ("bound", bounding)
-    return "shown", (table_with_least(rule, sums, step), bounding)
+    return "shown", (table, bounding)
 
 
 def _mend(claim):
@@ -208,6 +195,6 @@ def _closing_set(rule, sums, step):
 
 
 DECIDED = {
-    "order": _order, "crew": _crew, "joined": _joined, "way": _way, "table": _table, "price": _price, "most": _most,
-    "least": _least, "mend": _mend, "plan": _plan, "row": _row, "rounds": _rounds, "have": _have,
+    "order": _order, "crew": _crew, "joined": _joined, "way": _way, "table": _table, "price": _price, "most": _limit,
+    "least": _limit, "mend": _mend, "plan": _plan, "row": _row, "rounds": _rounds, "have": _have,
 }

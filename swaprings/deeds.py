@@ -1,6 +1,6 @@
 """Deeds: people change places behind a day; which rows they can lead to, and by which deeds."""
 
-from swaprings.limits import idle_steps, table_with_most
+from swaprings.limits import MOST, idle_steps, table_at
 from swaprings.orders import least_order
 from swaprings.prices import least_price
 from swaprings.rules import first_wrong_rule, steps_of
@@ -148,7 +148,7 @@ def _exchanged(rows, day, person, step, taking):
 
 def _ring_onto(rule, table, step):
     """Returns a ring by which somebody goes onto the step, on which nobody is but can be."""
-    turns = agreeing_turns(cells_between(table, table_with_most(rule, sums_of(table), step)))
+    turns = agreeing_turns(cells_between(table, table_at(MOST, rule, sums_of(table), step)))
     return [ring for ring, _ in turns if step in steps_behind(ring)][0]
 
 

@@ -2,7 +2,7 @@
 
 from swaprings.barriers import is_barrier
 from swaprings.errors import CannotTurn
-from swaprings.limits import lower, upper
+from swaprings.limits import bound_at, is_beyond
 from swaprings.prices import first_below, worth
 from swaprings.rules import prices_of, steps_of
 from swaprings.tables import first_barred, price_of_table, sums_of, turned
@@ -113,41 +113,25 @@ def _fault_of_potentials(rule, potentials, is_worth):
     return None if is_worth else ("worth",)
 
 
-def fault_of_most(claim, is_shown, paper):
-    """Returns the first fault of a table and a set that bounds the step, or of a barrier, or None."""
-    _, rule, sums, (i, j), many = claim
+def fault_of_limit(claim, is_shown, paper):
+    """Returns the first fault of a table and a set that bounds the step's most or least, or of a barrier, or None."""
+    kind, rule, sums, (i, j), many = claim
     if is_shown and many is None:
         return barrier_fault(rule, sums, paper)
     if is_shown:
         table, chosen = paper
-        is_bound = upper(rule, sums, (i, j), chosen) == many
-        return _fault_of_limit(rule, sums, table, table[i][j] == many, is_bound)
+        # Without shifts the lower bound is 0, so the least 0 needs no other one.
+        is_bound = bound_at(kind, rule, sums, (i, j), chosen) == many
+        return _fault_of_counted(rule, sums, table, table[i][j] == many, is_bound)
     word, value = paper
     if word == "none":
         return barrier_fault(rule, sums, value)
     if word == "bound":
-        return None if upper(rule, sums, (i, j), value) < many else ("bound",)
-    return _fault_of_limit(rule, sums, value, many is None or value[i][j] > many, True)
+        return None if is_beyond(kind, many, bound_at(kind, rule, sums, (i, j), value)) else ("bound",)
+    return _fault_of_counted(rule, sums, value, many is None or is_beyond(kind, value[i][j], many), True)
 
 
-def fault_of_least(claim, is_shown, paper):
-    """Returns the first fault of a table and a set that bounds the step, or of a barrier, or None."""
-    _, rule, sums, (i, j), many = claim
-    if is_shown and many is None:
-        return barrier_fault(rule, sums, paper)
-    if is_shown:
-        table, chosen = paper
-        is_bound = many == 0 or lower(rule, sums, (i, j), chosen) == many
-        return _fault_of_limit(rule, sums, table, table[i][j] == many, is_bound)
-    word, value = paper
-    if word == "none":
-        return barrier_fault(rule, sums, value)
-    if word == "bound":
-        return None if lower(rule, sums, (i, j), value) > many else ("bound",)
-    return _fault_of_limit(rule, sums, value, many is None or value[i][j] < many, True)
-
-
-def _fault_of_limit(rule, sums, table, is_count, is_bound):
+def _fault_of_counted(rule, sums, table, is_count, is_bound):
     fault = table_fault(rule, sums, table)
     if fault is not None:
         return fault

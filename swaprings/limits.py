@@ -4,6 +4,8 @@ from swaprings.barriers import all_sets, barrier_for, next_shifts
 from swaprings.prices import cheapest
 from swaprings.rules import steps_of
 
+MOST = "most"
+
 
 def most_of(rule, sums, step):
     """Returns the greatest count of the step in tables with these sums, None if there is no table."""
@@ -27,19 +29,21 @@ def _least(rule, sums, step):
     return max([0] + [lower(rule, sums, step, chosen) for chosen in all_sets(rule[0]) if step[0] in chosen])
 
 
-def table_with_most(rule, sums, step):
-    """Returns a table with these sums that has the most people on the step, None if there is no table."""
-    return cheapest(_priced_alone(rule, step, -1), sums)
+def table_at(kind, rule, sums, step):
+    """Returns a table with these sums that has the most or the least people on the step, None if there is no table."""
+    price = -1 if kind == MOST else 1
+    alone = [(i, j, price if (i, j) == step else 0) for i, j, _ in rule[1]]
+    return cheapest((rule[0], tuple(alone)), sums)
 
 
-def table_with_least(rule, sums, step):
-    """Returns a table with these sums that has the least people on the step, None if there is no table."""
-    return cheapest(_priced_alone(rule, step, 1), sums)
+def bound_at(kind, rule, sums, step, shifts):
+    """Returns the upper bound of the shifts for the most of the step, the lower one for its least."""
+    return upper(rule, sums, step, shifts) if kind == MOST else lower(rule, sums, step, shifts)
 
 
-def _priced_alone(rule, step, price):
-    """Returns the rule with this price for the step and 0 for all others."""
-    return rule[0], tuple([(i, j, price if (i, j) == step else 0) for i, j, _ in rule[1]])
+def is_beyond(kind, many, other):
+    """Tells whether so many are more than the other number, for the most, or fewer, for the least."""
+    return many > other if kind == MOST else many < other
 
 
 def upper(rule, sums, step, shifts):

@@ -115,48 +115,33 @@ def _table(claim, is_shown, paper):
     return _is_table(paper, shifts) if is_shown else is_set_of(paper, shifts)
 
 
-def _price(claim, is_shown, paper):
-    _, rule, _, price = claim
-    shifts = rule[0]
-    if is_shown and price is None:
+def _number(claim, is_shown, paper):
+    """Price, most and least: the last part of the claim is a number, or None."""
+    shifts, number = claim[1][0], claim[-1]
+    if is_shown and number is None:
         return is_set_of(paper, shifts)
     if not is_tuple_of(paper, 2):
         return False
     first, second = paper
+    if is_shown and claim[0] == "least" and number == 0:
+        return _is_table(first, shifts) and second == ()
     if is_shown:
-        return _is_table(first, shifts) and have_potentials_form(second, shifts)
-    if first == "bound":
-        return price is not None and have_potentials_form(second, shifts)
-    return _is_table_or_none(first, second, price, shifts)
-
-
-def _is_table_or_none(word, value, number, shifts):
-    """Tells whether the word is "table" or, for a number, "none", and what comes with it has its shape."""
-    if word == "none":
-        return number is not None and is_set_of(value, shifts)
-    return word == "table" and _is_table(value, shifts)
-
-
-def _limit(claim, is_shown, paper):
-    kind, rule, _, step, many = claim
-    shifts = rule[0]
-    if is_shown and many is None:
-        return is_set_of(paper, shifts)
-    if not is_tuple_of(paper, 2):
+        return _is_table(first, shifts) and _is_bounding(claim, second)
+    if first == "table":
+        return _is_table(second, shifts)
+    if number is None:
         return False
-    first, second = paper
-    if is_shown:
-        if kind == "least" and many == 0:
-            return _is_table(first, shifts) and second == ()
-        return _is_table(first, shifts) and _is_bounding(kind, step, second, shifts)
-    if first == "bound":
-        return many is not None and _is_bounding(kind, step, second, shifts)
-    return _is_table_or_none(first, second, many, shifts)
+    if first == "none":
+        return is_set_of(second, shifts)
+    return first == "bound" and _is_bounding(claim, second)
 
 
-def _is_bounding(kind, step, value, shifts):
-    """Tells whether the value is a set with the step's first shift for the least, without it for the most."""
-    return is_set_of(value, shifts) and (step[0] in value) == (kind == "least")
+def _is_bounding(claim, value):
+    """Tells whether the value has the shape of potentials, or of a set with or without the step's first shift."""
+    kind, shifts = claim[0], claim[1][0]
+    if kind == "price":
+        return have_potentials_form(value, shifts)
+    return is_set_of(value, shifts) and (claim[3][0] in value) == (kind == "least")
 
 
 def _mend(claim, is_shown, paper):
@@ -277,6 +262,6 @@ def _is_block(value, rules):
 
 
 SHAPES = {
-    "order": _order, "crew": _crew, "joined": _joined, "way": _way, "table": _table, "price": _price, "most": _limit,
-    "least": _limit, "mend": _mend, "plan": _plan, "row": _row, "rounds": _rounds, "have": _have,
+    "order": _order, "crew": _crew, "joined": _joined, "way": _way, "table": _table, "price": _number, "most": _number,
+    "least": _number, "mend": _mend, "plan": _plan, "row": _row, "rounds": _rounds, "have": _have,
 }

@@ -4,8 +4,9 @@ from itertools import combinations, product
 
 from tests.samples import (
     BOTH, EMPTY, FULL, LATE, SIX, bare_rings_by_words, barriers_by_words, drawn_sums, has_order_by_words,
-    pieces_by_words, prices_by_pair, random_people, random_plan, random_rota, random_rule, random_table,
-    reached_by_words, rosters_reached, round_rule, sums_of_rows, tables_with,
+    others_of_plan, pieces_by_words, prices_by_pair, random_people, random_plan, random_rota, random_rule, random_table,
+    reached_by_words, rosters_reached, round_rule, sums_of_plan, sums_of_rows,
+    tables_with,
 )
 
 KINDS = ("order", "crew", "joined", "way", "table", "price", "most", "least", "mend", "plan", "row", "rounds", "have")
@@ -109,23 +110,10 @@ def mend_claim(random):
     return ("mend", rule, options, cost), cost == least
 
 
-def sums_of_plan(plan, t):
-    needs = plan[0]
-    return needs[t], needs[(t + 1) % len(needs)]
-
-
 def plan_claim(random):
     plan = random_plan(random, random.choice((2, 3, 4)), random.choice((1, 3, 5, MOST)))
     truth = not any(barriers_by_words(rule, sums_of_plan(plan, t)) for t, rule in enumerate(plan[1]))
     return ("plan", plan), truth
-
-
-def others_of_plan(plan, row, t):
-    rows, columns = map(list, sums_of_plan(plan, t))
-    if t < len(plan[0]) - 1:
-        rows[row[t]] -= 1
-        columns[row[t + 1]] -= 1
-    return tuple(rows), tuple(columns)
 
 
 def row_claim(random):

@@ -278,6 +278,21 @@ def random_plan(random, shifts, people, days=None, closed=None, chance=70):
     return needs_of(shifts, rows), rules
 
 
+def sums_of_plan(plan, t):
+    """The sums of rule t."""
+    needs = plan[0]
+    return needs[t], needs[0] if t == len(needs) - 1 else needs[t + 1]
+
+
+def others_of_plan(plan, row, t):
+    """The sums of rule t for the others than somebody with this row."""
+    rows, columns = map(list, sums_of_plan(plan, t))
+    if t < len(plan[0]) - 1:
+        rows[row[t]] -= 1
+        columns[row[t + 1]] -= 1
+    return tuple(rows), tuple(columns)
+
+
 def needs_of(shifts, rows):
     return tuple(tuple(day.count(shift) for shift in range(shifts)) for day in zip(*rows))
 

@@ -3,8 +3,8 @@
 from itertools import combinations, product
 
 from tests.samples import (
-    bare_rings_by_words, barriers_by_words, fours, handed_round, next_shifts_by_words, prices_by_pair, rings_by_words,
-    rounds_by_words, sums_of_rows, tables_by_words, turned_by_words,
+    bare_rings_by_words, barriers_by_words, fours, handed_round, next_shifts_by_words, others_of_plan, prices_by_pair,
+    rings_by_words, rounds_by_words, sums_of_plan, sums_of_rows, tables_by_words, turned_by_words,
 )
 
 MOST = 10 ** 30
@@ -423,22 +423,14 @@ def mend_faults(claim, shown, paper):
             yield "set", c, r
 
 
-def sums_of_rule(plan, t, row=None):
-    a, b = map(list, (plan[0][t], plan[0][(t + 1) % len(plan[0])]))
-    if row is not None and t < len(plan[0]) - 1:
-        a[row[t]] -= 1
-        b[row[t + 1]] -= 1
-    return tuple(a), tuple(b)
-
-
 def plan_faults(claim, shown, paper):
     plan = claim[1]
     if shown:
         for t, table in enumerate(paper):
-            for fault in table_faults(plan[1][t], sums_of_rule(plan, t), table):
+            for fault in table_faults(plan[1][t], sums_of_plan(plan, t), table):
                 yield "table", t, fault
     else:
-        yield from barrier_faults(plan[1][paper[0]], sums_of_rule(plan, paper[0]), paper[1])
+        yield from barrier_faults(plan[1][paper[0]], sums_of_plan(plan, paper[0]), paper[1])
 
 
 def row_faults(claim, shown, paper):
@@ -451,14 +443,14 @@ def row_faults(claim, shown, paper):
         for t in short:
             yield "short", t
         for t, table in enumerate(paper):
-            for fault in table_faults(plan[1][t], sums_of_rule(plan, t, row), table):
+            for fault in table_faults(plan[1][t], others_of_plan(plan, row, t), table):
                 yield "table", t, fault
     elif paper[0] == "step" and paper[1] not in barred:
         yield ("step",)
     elif paper[0] == "short" and paper[1] not in short:
         yield ("short",)
     elif paper[0] == "barrier":
-        yield from barrier_faults(plan[1][paper[1]], sums_of_rule(plan, paper[1], row), paper[2])
+        yield from barrier_faults(plan[1][paper[1]], others_of_plan(plan, row, paper[1]), paper[2])
 
 
 def change_faults(rota, changes, is_right):

@@ -135,6 +135,9 @@ class Reading(unittest.TestCase):
             change[1, 3]
         self.assertEqual(caught.exception.value, 3)
 
+    def test_it_is_not_iterated_over(self):
+        self.assertRaises(TypeError, lambda: list(Change(SWAP)))
+
     def test_people(self):
         self.assertEqual([Change(cells).people() for cells in (SWAP, LONG, ((0, 0), (0, 0)))], [4, 3, 0])
         for cells in all_cells(185, 60):

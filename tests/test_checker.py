@@ -187,7 +187,8 @@ class EachFault(unittest.TestCase):
             (((ring, 1), (ring, 2)), ("turn", 1)), (((ring[::-1], 2),), ("turn", 0)), (((ring[:1], 1),), ("turn", 0)),
             (((ring, 2), (back, 3)), ("turn", 1)), (((ring, 2), (back, 2), (ring, 2)), None), ((((), 1),), ("paper",)),
             (((ring, 2), (back, 1)), ("end",)), (((ring, 2), (back, 1), (ring, 1)) * 166, ("turn", 3)),
-            (((ring, 1), (back, 1)) * 249 + ((ring, 2),), None), (((ring, 1), (back, 1)) * 250 + ((ring, 2),), ("paper",)),
+            (((ring, 1), (back, 1)) * 249 + ((ring, 2),), None), (((ring, 1), (back, 1)) * 250, ("end",)),
+            (((ring, 1), (back, 1)) * 250 + ((ring, 2),), ("paper",)),
             ([(ring, 2)], ("paper",)), (((ring, 2, 0),), ("paper",)), (((((0, 0), (1, 2)), 1),), ("paper",)),
         ])
         one, turned = ((1, 0, 0), (0, 1, 0), (0, 0, 1)), ((0, 1, 0), (0, 0, 1), (1, 0, 0))
@@ -257,6 +258,9 @@ class EachFault(unittest.TestCase):
         self.told("shown", ("least", LATE, sums, (1, 1), 2), [
             ((lower, (1,)), None), ((upper, (1,)), ("count",)), ((lower, (0, 1)), ("bound",)), ((lower, ()), ("paper",)),
             ((lower, (0,)), ("paper",)),
+        ])
+        self.told("shown", ("least", LATE, sums, (0, 1), 1), [
+            ((upper, (0,)), None), ((upper, (0, 1)), ("bound",)), ((lower, (0,)), ("count",)), ((upper, ()), ("paper",)),
         ])
         self.told("shown", ("least", LATE, sums, (0, 0), 0), [
             ((lower, ()), None), ((lower, (0,)), ("paper",)), ((upper, ()), ("count",)), ((lower, []), ("paper",)),
@@ -364,7 +368,7 @@ class EachFault(unittest.TestCase):
         self.told("shown", ("rounds", plan, rota, 1), [
             ((((1, 0, 1),), pieces), None), (((), pieces), ("rounds",)), ((((0, 0, 1),), pieces), ("change", 0)),
             ((((1, 0, 1), (1, 1, 1)), pieces), ("change", 1)), ((((1, 0, 1),) * 99, pieces), None),
-            ((((1, 0, 1),) * 101, pieces), ("paper",)), ((((2, 0, 1),), pieces), ("paper",)), ((((1, 0, 2),), pieces), ("paper",)),
+            ((((1, 0, 1),) * 100, pieces), ("rounds",)), ((((1, 0, 1),) * 101, pieces), ("paper",)), ((((2, 0, 1),), pieces), ("paper",)), ((((1, 0, 2),), pieces), ("paper",)),
             ((((1, 0),), pieces), ("paper",)), ((((1, 0, 1),), ()), ("lacks",)), ((((1, 0, 1),), ((),)), ("paper",)),
             ((((1, 0, 1),), (((0, 0), (1, 0), (1, 1)),)), ("place", 0)), ((((1, 0, 1),), (((0, 1), (0, 0), (1, 0)),)), ("paper",)),
             ((((1, 0, 1),), (((0, 0), (1, 0)),)), ("lacks",)), ((((1, 0, 1),), (((0, 0), (1, 0)), ((0, 1),))), ("joined", 0, 1)),
@@ -404,6 +408,7 @@ class EachFault(unittest.TestCase):
         self.told("broken", claim, [
             (right, None), ((((), (0,)), ()), ("start",)), ((((1,), (0,)), ()), ("start",)), ((((0,), (0, 1)), ()), ("shift",)),
             (((0,), (0,)), ("paper",)), ((right[0], ()), ("wall", 0, 0, 1)), ((right[0], right[1] * 2), ("paper",)),
+            ((right[0], right[1] + ((0, 0, 1, (1,)),)), ("paper",)),
             ((right[0], right[1] + ((0, 1, 2, ()),)), ("more", 1)), ((right[0], ((0, 0, 0, ()),) + right[1]), ("more", 0)),
             ((right[0], (block[:3] + ((),),)), None), ((right[0], (block[:3] + ((1, 2),),)), ("bound", 0)),
             ((right[0], (block[:3] + ((0,),),)), ("paper",)), ((right[0][:1], right[1]), ("paper",)),

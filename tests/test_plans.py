@@ -11,7 +11,8 @@ from swaprings.plans import (
 )
 from swaprings.tables import price_of_table, require_table, sums_of
 from tests.samples import (
-    EMPTY, LATE, SIX, STEEP, barriers_by_words, odd_values, prices_by_pair, random_plan, tables_with,
+    EMPTY, LATE, SIX, STEEP, barriers_by_words, odd_values, others_of_plan, prices_by_pair, random_plan, sums_of_plan,
+    tables_with,
 )
 
 MOST = 10 ** 30
@@ -19,21 +20,8 @@ WEEK = (((1, 1), (2, 0), (1, 1)), (LATE, LATE))
 ENDLESS = (((1, 1), (2, 0), (1, 1)), (LATE, LATE, LATE))
 
 
-def sums_by_words(plan, t):
-    needs = plan[0]
-    return needs[t], needs[0] if t == len(needs) - 1 else needs[t + 1]
-
-
 def rows_of(plan):
     return list(product(range(plan[1][0][0]), repeat=len(plan[0])))
-
-
-def others_by_words(plan, row, t):
-    rows, columns = map(list, sums_by_words(plan, t))
-    if t < len(plan[0]) - 1:
-        rows[row[t]] -= 1
-        columns[row[t + 1]] -= 1
-    return tuple(rows), tuple(columns)
 
 
 def fits_by_words(plan, row):
@@ -42,7 +30,7 @@ def fits_by_words(plan, row):
         return False
     if any(plan[0][t][shift] == 0 for t, shift in enumerate(row)):
         return False
-    return all(tables_with(rule, others_by_words(plan, row, t)) for t, rule in enumerate(plan[1]))
+    return all(tables_with(rule, others_of_plan(plan, row, t)) for t, rule in enumerate(plan[1]))
 
 
 class RequirePlan(unittest.TestCase):
@@ -125,9 +113,9 @@ class Plans(unittest.TestCase):
         """Checks all but the rows against each other; tells whether there is a roster."""
         roster, cheap, barrier = roster_for(plan), cheapest_roster(plan), first_barrier(plan)
         self.assertIs(is_endless(plan), len(plan[0]) == len(plan[1]))
-        found = [barriers_by_words(rule, sums_by_words(plan, t)) for t, rule in enumerate(plan[1])]
+        found = [barriers_by_words(rule, sums_of_plan(plan, t)) for t, rule in enumerate(plan[1])]
         for t in range(len(plan[1])):
-            self.assertEqual(sums_for(plan, t), sums_by_words(plan, t))
+            self.assertEqual(sums_for(plan, t), sums_of_plan(plan, t))
         if barrier is not None:
             t, chosen = barrier
             self.assertEqual((roster, cheap, found[:t]), (None, None, [[]] * t))
@@ -139,7 +127,7 @@ class Plans(unittest.TestCase):
             self.assertEqual(len(tables), len(plan[1]))
             for t, rule in enumerate(plan[1]):
                 require_table(rule, tables[t])
-                self.assertEqual(sums_of(tables[t]), sums_by_words(plan, t))
+                self.assertEqual(sums_of(tables[t]), sums_of_plan(plan, t))
         return True
 
     def test_the_example_and_its_endless_kin(self):
@@ -173,7 +161,7 @@ class Plans(unittest.TestCase):
         random, seen = Random(164), 0
         for _ in range(300):
             plan = random_plan(random, random.choice((2, 3)), random.choice((1, 2, 3)), random.randrange(1, 4), chance=90)
-            tables = [tables_with(rule, sums_by_words(plan, t)) for t, rule in enumerate(plan[1])]
+            tables = [tables_with(rule, sums_of_plan(plan, t)) for t, rule in enumerate(plan[1])]
             prices = [sum(price_of_table(rule, table) for rule, table in zip(plan[1], roster))
                       for roster in product(*tables)]
             roster = cheapest_roster(plan)
@@ -234,7 +222,7 @@ class RowFits(unittest.TestCase):
         random = Random(166)
         for _ in range(60):
             plan = random_plan(random, 3, 3, random.randrange(2, 4), False)
-            rosters = list(product(*[tables_with(rule, sums_by_words(plan, t)) for t, rule in enumerate(plan[1])]))
+            rosters = list(product(*[tables_with(rule, sums_of_plan(plan, t)) for t, rule in enumerate(plan[1])]))
             for row in rows_of(plan):
                 made = any(all(roster[t][row[t]][row[t + 1]] for t in range(len(row) - 1)) for roster in rosters)
                 self.assertEqual(row_fits(plan, row), made)
@@ -247,7 +235,7 @@ class RowFits(unittest.TestCase):
                 row = tuple(random.randrange(5) for _ in range(7))
                 right = all((row[t], row[t + 1]) in prices_by_pair(plan[1][t]) for t in range(6)) \
                     and all(plan[0][t][shift] for t, shift in enumerate(row)) \
-                    and not any(barriers_by_words(rule, others_by_words(plan, row, t))
+                    and not any(barriers_by_words(rule, others_of_plan(plan, row, t))
                                 for t, rule in enumerate(plan[1]))
                 self.assertIs(row_fits(plan, row), right)
 

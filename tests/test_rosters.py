@@ -209,8 +209,9 @@ class Reading(unittest.TestCase):
         self.assertEqual(roster[0, 2], 1)
         self.assertEqual(error_of(lambda: roster.table(2))[0], ("UnknownDay", 2))
 
-    def test_it_is_true(self):
+    def test_it_is_true_and_not_iterated_over(self):
         self.assertTrue(Roster(RULES, ROWS))
+        self.assertRaises(TypeError, lambda: list(Roster(RULES, ROWS)))
 
 
 class Deeds(unittest.TestCase):
